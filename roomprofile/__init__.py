@@ -1,0 +1,1 @@
+"""Roomprofile: which orders of work fit a shared capacity."""

@@ -1,0 +1,1 @@
+"""Jobs, the addresses of their steps, and the states of small jobs."""

@@ -1,0 +1,1 @@
+"""Profiles: all that other jobs can notice about a job."""

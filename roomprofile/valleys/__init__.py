@@ -1,0 +1,1 @@
+"""Valleys: how low the usage can go within each capacity."""

@@ -1,0 +1,136 @@
+"""Promises 0.1 to 0.6, for all functions at once, and the interface that the document lists."""
+
+import importlib
+import inspect
+import unittest
+
+from tests.checks import Checks
+from tests.values import A, B, C, HUGE, INTEGERS, NO_JOBS, P, STRANGE, TUPLES, WIDE, deep_tuple
+from tests.wrong_valleys import NO_PROFILES, NO_VALLEYS, PROFILES, START_VALLEYS
+
+INTERFACE = {
+    'jobs.jobs': {
+        'is_job': '(value)', 'node_count': '(job)', 'step_count': '(job)', 'is_empty': '(job)', 'net': '(job)',
+        'lowest': '(job)', 'mirror': '(job)', 'tidy': '(job)',
+    },
+    'jobs.addresses': {
+        'is_address': '(job, value)', 'step_value': '(job, address)', 'precedes': '(job, first, second)',
+        'all_addresses': '(job)',
+    },
+    'jobs.states': {
+        'is_state': '(job, value)', 'usage': '(job, state)', 'available': '(job, state, *, most=None)',
+        'union': '(job, first, second)', 'common': '(job, first, second)', 'least_state': '(job, addresses)',
+    },
+    'runs.runs': {
+        'is_run': '(job, value, *, state=())', 'is_complete_run': '(job, value, *, state=())',
+        'some_run': '(job, *, state=())', 'state_after': '(job, run, *, state=())',
+        'run_usages': '(job, run, *, state=())', 'run_peak': '(job, run, *, state=())',
+        'lift_run': '(job, run, state)', 'cut_run': '(job, run, state)',
+    },
+    'valleys.valleys': {
+        'is_valleys': '(value)', 'is_start_valleys': '(value)', 'valley_at': '(valleys, capacity)',
+        'shifted': '(valleys, *, capacity=0, usage=0)', 'from_capacity': '(valleys, capacity)',
+        'least_of_two': '(first, second)', 'joint_lows': '(parts, capacity)', 'joint_valleys': '(parts)',
+    },
+    'profiles.basic': {'step_profile': '(value)', 'seq_profiles': '(profiles)'},
+    'profiles.beside': {'par_profiles': '(profiles)'},
+}
+
+STEP_PROFILES = ((5, 5, ((0, 0),), ((5, 0),)), (-3, 0, ((0, -3),), ((-3, -3),)))
+CALLS = {
+    'is_job': (C,), 'node_count': (C,), 'step_count': (C,), 'is_empty': (C,), 'net': (C,), 'lowest': (C,), 'mirror': (C,),
+    'tidy': (C,), 'is_address': (C, (0, 0)), 'step_value': (C, (0, 0)), 'precedes': (C, (0, 0), (0, 1)),
+    'all_addresses': (C,), 'is_state': (C, ((0, 0),)), 'usage': (C, ((0, 0),)), 'available': (C, ((0, 0),)),
+    'union': (C, ((0, 0),), ((1, 0),)), 'common': (C, ((0, 0),), ((0, 0), (1, 0))), 'least_state': (C, ((0, 1), (0, 1))),
+    'is_run': (C, ((0, 0),)), 'is_complete_run': (C, ((0, 0),)), 'some_run': (C,), 'state_after': (C, ((1, 0), (0, 0))),
+    'run_usages': (C, ((0, 0),)), 'run_peak': (C, ((0, 0),)), 'lift_run': (C, ((0, 0), (1, 0)), ((0, 0),)),
+    'cut_run': (C, ((0, 0), (1, 0)), ((0, 0),)), 'is_valleys': (((0, 0),),), 'is_start_valleys': (((0, 0),),),
+    'valley_at': (((0, 0),), 0), 'shifted': (((0, 0), (1, -1)),), 'from_capacity': (((0, 0), (2, -1)), 1),
+    'least_of_two': (((0, 0),), ((1, -1),)), 'joint_lows': ((((0, 0),), ((0, 0), (1, -1))), 1),
+    'joint_valleys': ((((0, 0),), ((0, 0), (1, -1))),), 'step_profile': (5,), 'seq_profiles': (STEP_PROFILES,),
+    'par_profiles': (STEP_PROFILES,),
+}
+
+ANY_VALUES = STRANGE + INTEGERS + TUPLES + NO_JOBS + NO_VALLEYS + NO_PROFILES + PROFILES + START_VALLEYS + (
+    A, B, C, P, HUGE, deep_tuple(200), [[[]]] * 3, {'a': {'b': (1, [2])}}, ((0, 0), {'a': 1}), (((0, 0), []),),
+)
+
+
+def functions():
+    for module, names in INTERFACE.items():
+        for name, signature in names.items():
+            yield importlib.import_module('roomprofile.' + module), name, signature
+
+
+class InterfaceTest(Checks):
+    def test_functions_are_defined_where_they_are_listed(self):
+        for module, name, signature in functions():
+            with self.subTest(name):
+                function = getattr(module, name)
+                self.assertTrue(inspect.isfunction(function))
+                self.assertEqual(function.__module__, module.__name__)
+                self.assertEqual(str(inspect.signature(function)), signature)
+
+    def test_all_functions_are_called_below(self):
+        self.assertEqual({name for _, name, _ in functions()}, set(CALLS))
+
+
+class ConventionsTest(Checks):
+    def test_the_same_call_returns_an_equal_result(self):
+        for module, name, _ in functions():
+            with self.subTest(name):
+                function = getattr(module, name)
+                self.assert_same(function(*CALLS[name]), function(*CALLS[name]))
+
+    def test_results_cannot_be_changed(self):
+        for module, name, _ in functions():
+            with self.subTest(name):
+                self.assertTrue(is_fixed(getattr(module, name)(*CALLS[name])))
+
+    def test_functions_that_accept_any_value(self):
+        for module, name, signature in functions():
+            if 'value' not in signature or not name.startswith('is_'):
+                continue
+            function = getattr(module, name)
+            for job in ((C, 5, P) if 'job' in signature else (None,)):
+                for index, value in enumerate(ANY_VALUES + (WIDE,)):
+                    with self.subTest(name=name, index=index):
+                        result = function(value) if job is None else function(job, value)
+                        self.assertIn(result, (True, False))
+                        self.assertIsInstance(result, bool)
+
+    def test_booleans_are_no_integers(self):
+        def calls(truth, zero):
+            """Calls that go well with 1 and 0."""
+            return (
+                ('jobs.jobs', 'node_count', (('seq', (truth, zero)),), {}),
+                ('jobs.jobs', 'node_count', (('repeat', truth, 5),), {}),
+                ('jobs.addresses', 'step_value', (C, (truth, zero)), {}),
+                ('jobs.states', 'usage', (C, ((truth, zero),)), {}),
+                ('jobs.states', 'available', (C, ()), {'most': truth}),
+                ('jobs.states', 'least_state', (C, ((truth, zero),)), {}),
+                ('runs.runs', 'run_usages', (C, ((truth, zero),)), {}),
+                ('runs.runs', 'run_usages', (C, ()), {'state': ((truth, zero),)}),
+                ('valleys.valleys', 'valley_at', (((zero, zero),), 5), {}),
+                ('valleys.valleys', 'valley_at', (((0, 0),), truth), {}),
+                ('valleys.valleys', 'shifted', (((0, 0),),), {'usage': zero}),
+                ('valleys.valleys', 'joint_lows', ((((0, 0),),), zero), {}),
+                ('profiles.basic', 'step_profile', (truth,), {}),
+                ('profiles.beside', 'par_profiles', (((zero, truth, ((0, 0),), ((0, 0),)),),), {}),
+            )
+        for module, name, arguments, more in calls(1, 0):
+            getattr(importlib.import_module('roomprofile.' + module), name)(*arguments, **more)
+        for index, (module, name, arguments, more) in enumerate(calls(True, False)):
+            with self.subTest(index=index, name=name):
+                with self.assertRaises((ValueError, IndexError)):
+                    getattr(importlib.import_module('roomprofile.' + module), name)(*arguments, **more)
+
+
+def is_fixed(value):
+    if isinstance(value, tuple):
+        return all(is_fixed(part) for part in value)
+    return value is None or isinstance(value, (int, str))
+
+
+if __name__ == '__main__':
+    unittest.main()
