@@ -34,9 +34,25 @@ INTERFACE = {
     },
     'profiles.basic': {'step_profile': '(value)', 'seq_profiles': '(profiles)'},
     'profiles.beside': {'par_profiles': '(profiles)'},
+    'profiles.many': {'repeat_profile': '(count, profile)', 'copies_profile': '(count, profile)'},
+    'profiles.profiles': {
+        'profile': '(job)', 'is_profile': '(value)', 'normal_form': '(profile)', 'start_low': '(job, capacity)',
+        'end_low': '(job, capacity)',
+    },
+    'plans.plans': {
+        'is_plan': '(job, value)', 'chain': '(job, plan)', 'plan_peak': '(job, plan)', 'chain_profile': '(chain)',
+        'sequential_plan': '(job)',
+    },
+    'plans.best': {'best_plan': '(job)'},
+    'plans.orders': {
+        'run_of_plan': '(job, plan)', 'step_at': '(job, plan, position)', 'position_of': '(job, plan, address)',
+        'usage_at': '(job, plan, count)', 'peak_between': '(job, plan, first, last)',
+    },
 }
 
 STEP_PROFILES = ((5, 5, ((0, 0),), ((5, 0),)), (-3, 0, ((0, -3),), ((-3, -3),)))
+TWO = ('seq', (('step',), ('step',)))
+PLAN = ('par', (('join', (2,), TWO), ('seq', (('step',),) * 3)), (1, 1, 0, 1))
 CALLS = {
     'is_job': (C,), 'node_count': (C,), 'step_count': (C,), 'is_empty': (C,), 'net': (C,), 'lowest': (C,), 'mirror': (C,),
     'tidy': (C,), 'is_address': (C, (0, 0)), 'step_value': (C, (0, 0)), 'precedes': (C, (0, 0), (0, 1)),
@@ -48,11 +64,15 @@ CALLS = {
     'valley_at': (((0, 0),), 0), 'shifted': (((0, 0), (1, -1)),), 'from_capacity': (((0, 0), (2, -1)), 1),
     'least_of_two': (((0, 0),), ((1, -1),)), 'joint_lows': ((((0, 0),), ((0, 0), (1, -1))), 1),
     'joint_valleys': ((((0, 0),), ((0, 0), (1, -1))),), 'step_profile': (5,), 'seq_profiles': (STEP_PROFILES,),
-    'par_profiles': (STEP_PROFILES,),
+    'par_profiles': (STEP_PROFILES,), 'repeat_profile': (3, STEP_PROFILES[0]), 'copies_profile': (3, STEP_PROFILES[1]),
+    'profile': (C,), 'is_profile': (STEP_PROFILES[0],), 'normal_form': (STEP_PROFILES[0],), 'start_low': (C, 3),
+    'end_low': (C, 3), 'is_plan': (C, PLAN), 'chain': (C, PLAN), 'plan_peak': (C, PLAN), 'chain_profile': (((1, 2, 3),),),
+    'sequential_plan': (C,), 'best_plan': (C,), 'run_of_plan': (C, PLAN), 'step_at': (C, PLAN, 2),
+    'position_of': (C, PLAN, (0, 1)), 'usage_at': (C, PLAN, 2), 'peak_between': (C, PLAN, 1, 3),
 }
 
 ANY_VALUES = STRANGE + INTEGERS + TUPLES + NO_JOBS + NO_VALLEYS + NO_PROFILES + PROFILES + START_VALLEYS + (
-    A, B, C, P, HUGE, deep_tuple(200), [[[]]] * 3, {'a': {'b': (1, [2])}}, ((0, 0), {'a': 1}), (((0, 0), []),),
+    A, B, C, P, HUGE, deep_tuple(200), [[[]]] * 3, {'a': {'b': (1, [2])}}, ((0, 0), {'a': 1}), (((0, 0), []),), PLAN, TWO, ('step',),
 )
 
 
@@ -117,6 +137,19 @@ class ConventionsTest(Checks):
                 ('valleys.valleys', 'joint_lows', ((((0, 0),),), zero), {}),
                 ('profiles.basic', 'step_profile', (truth,), {}),
                 ('profiles.beside', 'par_profiles', (((zero, truth, ((0, 0),), ((0, 0),)),),), {}),
+                ('profiles.many', 'repeat_profile', (truth, STEP_PROFILES[0]), {}),
+                ('profiles.many', 'copies_profile', (zero, STEP_PROFILES[0]), {}),
+                ('profiles.profiles', 'normal_form', ((zero, truth, ((0, 0),), ((0, 0),)),), {}),
+                ('profiles.profiles', 'start_low', (C, truth), {}),
+                ('profiles.profiles', 'end_low', (A, truth), {}),
+                ('plans.plans', 'chain', (5, ('join', (truth,), ('step',))), {}),
+                ('plans.plans', 'plan_peak', (('par', (5, 5)), ('par', (('step',),) * 2, (truth, zero))), {}),
+                ('plans.plans', 'chain_profile', (((zero, truth, 1),),), {}),
+                ('plans.orders', 'step_at', (C, PLAN, truth), {}),
+                ('plans.orders', 'position_of', (C, PLAN, (truth, zero)), {}),
+                ('plans.orders', 'usage_at', (C, PLAN, zero), {}),
+                ('plans.orders', 'peak_between', (C, PLAN, zero, 1), {}),
+                ('plans.orders', 'peak_between', (C, PLAN, 0, truth), {}),
             )
         for module, name, arguments, more in calls(1, 0):
             getattr(importlib.import_module('roomprofile.' + module), name)(*arguments, **more)

@@ -8,16 +8,26 @@ from roomprofile.valleys.valleys import least_usages
 def step_profile(value):
     """The profile of a step."""
     check_number(value)
-    low = min(0, value)
-    return (value, max(0, value), ((0, low),), ((value, low),))
+    return of_step(value)
 
 
 def seq_profiles(profiles):
     """The profile of jobs with these profiles in sequence."""
     check_profiles(profiles)
+    return checked_profile(in_sequence(profiles))
+
+
+def of_step(step):
+    """The profile of a step of any size."""
+    low = min(0, step)
+    return (step, max(0, step), ((0, low),), ((step, low),))
+
+
+def in_sequence(profiles):
+    """The profile of jobs with these profiles in sequence, with valleys of any length."""
     total, peak, starts = _from_begin(profiles)
     ends = _from_end(profiles, total)
-    return checked_profile(total, peak, least_usages(starts), least_usages(ends))
+    return (total, peak, least_usages(starts), least_usages(ends))
 
 
 def _from_begin(profiles):

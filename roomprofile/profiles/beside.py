@@ -8,12 +8,17 @@ from roomprofile.valleys.valleys import moved
 def par_profiles(profiles):
     """The profile of jobs with these profiles in parallel."""
     check_profiles(profiles)
+    return checked_profile(in_parallel(profiles))
+
+
+def in_parallel(profiles):
+    """The profile of jobs with these profiles in parallel, with valleys of any length."""
     total = sum([part[0] for part in profiles])
     starts = joint_pairs([part[2] for part in profiles])
     # Seen from the end, going back to a low state is going down to it in the mirror of each job.
     mirror_starts = [moved(part[3], -part[0], -part[0]) for part in profiles]
     ends = moved(joint_pairs(mirror_starts), total, total)
-    return checked_profile(total, _least_peak(profiles, starts, ends), starts, ends)
+    return (total, _least_peak(profiles, starts, ends), starts, ends)
 
 
 def _least_peak(profiles, starts, ends):

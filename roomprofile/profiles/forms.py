@@ -6,6 +6,8 @@ from roomprofile.valleys.valleys import checked_length, is_start_valleys, is_val
 
 MAX_PROFILES = 400
 
+NOTHING = (0, 0, ((0, 0),), ((0, 0),))
+
 
 def has_profile_form(value):
     """Whether the value is a profile."""
@@ -19,15 +21,21 @@ def has_profile_form(value):
     return peak >= max(0, net, start[-1][0], end[-1][0])
 
 
+def check_profile(value):
+    """Raises InvalidProfile unless the value is a profile."""
+    if not has_profile_form(value):
+        raise InvalidProfile("this is not a profile")
+
+
 def check_profiles(profiles):
     """Raises InvalidProfile unless this is a tuple of at most 400 profiles."""
     if not isinstance(profiles, tuple) or len(profiles) > MAX_PROFILES:
         raise InvalidProfile("this is not a tuple of at most 400 profiles")
     for value in profiles:
-        if not has_profile_form(value):
-            raise InvalidProfile("a part is not a profile")
+        check_profile(value)
 
 
-def checked_profile(net, peak, start, end):
-    """The profile of these. Raises TooMany if its valleys have too many pairs."""
+def checked_profile(profile):
+    """The profile. Raises TooMany if its valleys have too many pairs."""
+    net, peak, start, end = profile
     return (net, peak, checked_length(start), checked_length(end))

@@ -26,7 +26,7 @@ def valley_at(valleys, capacity):
     """The value of the valleys at the capacity, or None below the first one."""
     _check_valleys(valleys)
     check_number(capacity)
-    return _value_at(valleys, capacity)
+    return value_at(valleys, capacity)
 
 
 def shifted(valleys, *, capacity=0, usage=0):
@@ -44,7 +44,7 @@ def from_capacity(valleys, capacity):
     if capacity < valleys[0][0]:
         raise InvalidNumber(capacity)
     later = [pair for pair in valleys if pair[0] > capacity]
-    return ((capacity, _value_at(valleys, capacity)), *later)
+    return ((capacity, value_at(valleys, capacity)), *later)
 
 
 def least_of_two(first, second):
@@ -83,6 +83,15 @@ def least_usages(pairs):
     return tuple(rows)
 
 
+def value_at(pairs, capacity):
+    """The value of valleys of any length at the capacity, or None below the first one."""
+    value = None
+    for least, low in pairs:
+        if least <= capacity:
+            value = low
+    return value
+
+
 def moved(pairs, capacity, low):
     """The pairs with these integers, of any size, added to all capacities and to all usages."""
     return tuple([(pair[0] + capacity, pair[1] + low) for pair in pairs])
@@ -110,11 +119,3 @@ def _check_parts(parts):
     for part in parts:
         if not is_start_valleys(part):
             raise InvalidValleys("a part is not start valleys")
-
-
-def _value_at(valleys, capacity):
-    value = None
-    for least, low in valleys:
-        if least <= capacity:
-            value = low
-    return value

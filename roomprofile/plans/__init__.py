@@ -1,0 +1,1 @@
+"""Plans: short descriptions of orders of all steps of a job."""
