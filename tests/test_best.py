@@ -10,7 +10,7 @@ from roomprofile.plans.plans import chain, chain_profile, is_plan, plan_peak
 from roomprofile.profiles.profiles import profile
 from tests.checks import Checks
 from tests.great import GREAT_JOBS, MOST
-from tests.reference import Order, profile_of, random_job, random_jobs
+from tests.reference import Order, normal_steps, profile_of, random_job, random_jobs, random_profile, reversed_profile
 from tests.reference_plans import chain_by_words, profile_by_words, stretches_by_words
 from tests.values import A, B, C, D, EMPTY_HUGE, HUGE, NO_JOBS, P, WIDE
 
@@ -47,6 +47,17 @@ class BestPlanTest(Checks):
             parts = tuple(('seq', tuple(source.randint(-9, 9) for _ in range(source.randint(1, 6))))
                           for _ in range(source.randint(2, 3)))
             self.assert_best(('par', parts), profile_of(('par', parts)))
+
+    def test_parts_that_go_down_and_up_many_times(self):
+        source = random.Random(147)
+        for _ in range(150):
+            profiles = [random_profile(source, 9) for _ in range(source.randint(2, 4))]
+            profiles = [source.choice([value, reversed_profile(value)]) for value in profiles]
+            parts = tuple(('seq', normal_steps(value)) for value in profiles)
+            self.assert_best(('par', parts), profile(('par', parts)))
+            count = source.choice([2, 3, 10 ** 20])
+            self.assert_best(('copies', count, parts[0]), profile(('copies', count, parts[0])))
+            self.assert_best(('repeat', count, ('par', parts)), profile(('repeat', count, ('par', parts))))
 
     def test_copies_that_go_down_and_up(self):
         source = random.Random(145)

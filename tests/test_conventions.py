@@ -48,11 +48,21 @@ INTERFACE = {
         'run_of_plan': '(job, plan)', 'step_at': '(job, plan, position)', 'position_of': '(job, plan, address)',
         'usage_at': '(job, plan, count)', 'peak_between': '(job, plan, first, last)',
     },
+    'barriers.judge': {'is_floor': '(job, capacity, low, value)', 'is_barrier': '(job, capacity, value)'},
+    'barriers.find': {'find_floor': '(job, capacity, low)', 'find_barrier': '(job, capacity)'},
+    'decisions.certificates': {
+        'certificate': '(job, capacity)', 'is_certificate': '(job, capacity, value)', 'least_certificate': '(job)',
+        'is_least_certificate': '(job, value)',
+    },
+    'decisions.limits': {
+        'copies_that_fit': f'(job, capacity, *, most={10 ** 30})', 'rounds_that_fit': f'(job, capacity, *, most={10 ** 30})',
+    },
 }
 
 STEP_PROFILES = ((5, 5, ((0, 0),), ((5, 0),)), (-3, 0, ((0, -3),), ((-3, -3),)))
 TWO = ('seq', (('step',), ('step',)))
 PLAN = ('par', (('join', (2,), TWO), ('seq', (('step',),) * 3)), (1, 1, 0, 1))
+BARRIER = ('high', 0, ('part', 0, ('net',)))
 CALLS = {
     'is_job': (C,), 'node_count': (C,), 'step_count': (C,), 'is_empty': (C,), 'net': (C,), 'lowest': (C,), 'mirror': (C,),
     'tidy': (C,), 'is_address': (C, (0, 0)), 'step_value': (C, (0, 0)), 'precedes': (C, (0, 0), (0, 1)),
@@ -69,10 +79,13 @@ CALLS = {
     'end_low': (C, 3), 'is_plan': (C, PLAN), 'chain': (C, PLAN), 'plan_peak': (C, PLAN), 'chain_profile': (((1, 2, 3),),),
     'sequential_plan': (C,), 'best_plan': (C,), 'run_of_plan': (C, PLAN), 'step_at': (C, PLAN, 2),
     'position_of': (C, PLAN, (0, 1)), 'usage_at': (C, PLAN, 2), 'peak_between': (C, PLAN, 1, 3),
+    'is_floor': (C, 3, -2, ('lowest',)), 'is_barrier': (C, 3, BARRIER), 'find_floor': (C, 2, 0), 'find_barrier': (C, 3),
+    'certificate': (C, 3), 'is_certificate': (C, 3, ('barrier', BARRIER)), 'least_certificate': (C,),
+    'is_least_certificate': (C, (4, PLAN, BARRIER)), 'copies_that_fit': (C, 9), 'rounds_that_fit': (C, 9),
 }
 
 ANY_VALUES = STRANGE + INTEGERS + TUPLES + NO_JOBS + NO_VALLEYS + NO_PROFILES + PROFILES + START_VALLEYS + (
-    A, B, C, P, HUGE, deep_tuple(200), [[[]]] * 3, {'a': {'b': (1, [2])}}, ((0, 0), {'a': 1}), (((0, 0), []),), PLAN, TWO, ('step',),
+    A, B, C, P, HUGE, deep_tuple(200), [[[]]] * 3, {'a': {'b': (1, [2])}}, ((0, 0), {'a': 1}), (((0, 0), []),), PLAN, TWO, ('step',), BARRIER, ('lowest',), ('net',), ('plan', PLAN), (4, PLAN, BARRIER),
 )
 
 
@@ -112,12 +125,13 @@ class ConventionsTest(Checks):
             if 'value' not in signature or not name.startswith('is_'):
                 continue
             function = getattr(module, name)
-            for job in ((C, 5, P) if 'job' in signature else (None,)):
+            before = {'(value)': [()], '(job, value)': [(C,), (5,), (P,)]}.get(signature)
+            if before is None:
+                before = [(job,) + CALLS[name][1:-1] for job in (C, 5, P)]
+            for arguments in before:
                 for index, value in enumerate(ANY_VALUES + (WIDE,)):
                     with self.subTest(name=name, index=index):
-                        result = function(value) if job is None else function(job, value)
-                        self.assertIn(result, (True, False))
-                        self.assertIsInstance(result, bool)
+                        self.assertIsInstance(function(*arguments, value), bool)
 
     def test_booleans_are_no_integers(self):
         def calls(truth, zero):
@@ -150,6 +164,16 @@ class ConventionsTest(Checks):
                 ('plans.orders', 'usage_at', (C, PLAN, zero), {}),
                 ('plans.orders', 'peak_between', (C, PLAN, zero, 1), {}),
                 ('plans.orders', 'peak_between', (C, PLAN, 0, truth), {}),
+                ('barriers.judge', 'is_floor', (C, truth, zero, None), {}),
+                ('barriers.judge', 'is_floor', (C, 1, zero, None), {}),
+                ('barriers.judge', 'is_barrier', (C, truth, None), {}),
+                ('barriers.find', 'find_floor', (C, truth, 0), {}),
+                ('barriers.find', 'find_floor', (C, 1, zero), {}),
+                ('barriers.find', 'find_barrier', (C, zero), {}),
+                ('decisions.certificates', 'certificate', (C, truth), {}),
+                ('decisions.certificates', 'is_certificate', (C, truth, None), {}),
+                ('decisions.limits', 'copies_that_fit', (C, 9), {'most': truth}),
+                ('decisions.limits', 'rounds_that_fit', (C, zero), {}),
             )
         for module, name, arguments, more in calls(1, 0):
             getattr(importlib.import_module('roomprofile.' + module), name)(*arguments, **more)

@@ -7,6 +7,7 @@ from roomprofile.plans.building import plan_joined, plan_of_many, plan_of_parts,
 from roomprofile.plans.chains import are_segments, end_marks, start_marks, valleys_of, whole
 from roomprofile.plans.stretches import copies_run, joined_run, order_in_turn, parts_run, rounds_run, step_run
 from roomprofile.profiles.forms import checked_profile
+from roomprofile.tuples import begins_with
 
 MAX_SEGMENTS = 2000
 
@@ -53,7 +54,7 @@ def checked_run(job, plan):
 
 def find_run(job, value):
     """The run of the plan of the job, or None if the value is not a plan of it."""
-    if not _is_form(value, 3, "join"):
+    if not begins_with(value, "join", 3):
         return _find_plain_run(job, value)
     inner = _find_plain_run(job, value[2])
     if inner is None or not _are_sizes(value[1], len(inner.chain)):
@@ -64,7 +65,7 @@ def find_run(job, value):
 def _find_plain_run(job, value):
     """As find_run, for plans that are not joins."""
     if is_integer(job):
-        return step_run(job) if _is_form(value, 1, "step") else None
+        return step_run(job) if begins_with(value, "step", 1) else None
     if job[0] == "seq":
         return _find_run_of_seq(job, value)
     if job[0] == "par":
@@ -73,21 +74,21 @@ def _find_plain_run(job, value):
 
 
 def _find_run_of_seq(job, value):
-    parts = _find_runs(job[1], value[1]) if _is_form(value, 2, "seq") else None
+    parts = _find_runs(job[1], value[1]) if begins_with(value, "seq", 2) else None
     if parts is None:
         return None
     return parts_run(parts, order_in_turn(parts))
 
 
 def _find_run_of_par(job, value):
-    parts = _find_runs(job[1], value[1]) if _is_form(value, 3, "par") else None
+    parts = _find_runs(job[1], value[1]) if begins_with(value, "par", 3) else None
     if parts is None or not _is_order(value[2], parts):
         return None
     return parts_run(parts, value[2])
 
 
 def _find_run_of_many(job, value):
-    inner = find_run(job[2], value[1]) if _is_form(value, 2, job[0]) else None
+    inner = find_run(job[2], value[1]) if begins_with(value, job[0], 2) else None
     if inner is None:
         return None
     if job[0] == "copies":
@@ -109,10 +110,6 @@ def _find_runs(jobs, plans):
         runs.append(run)
         segments += len(run.chain)
     return runs if segments <= MAX_SEGMENTS else None
-
-
-def _is_form(value, length, word):
-    return isinstance(value, tuple) and len(value) == length and value[0] == word
 
 
 def _are_sizes(value, total):
