@@ -2,6 +2,7 @@
 
 import random
 
+from tests.reference import normal_steps, random_profile, reversed_profile
 from tests.values import D, EMPTY_HUGE, HUGE, nested
 
 MOST = 10 ** 30
@@ -10,6 +11,19 @@ MOST = 10 ** 30
 def zigzag(many, source):
     """So many steps that go up and down by turns."""
     return tuple((1 if at % 2 == 0 else -1) * source.randint(1, 50) for at in range(many))
+
+
+def valleys(source, longest):
+    """A sequence that goes down and up in several valleys."""
+    profile = random_profile(source, longest)
+    return ('seq', normal_steps(source.choice([profile, reversed_profile(profile)])))
+
+
+def uneven_parts(source):
+    """Parallel parts of several valleys each, many rounds and many copies of such ones among them."""
+    rounds = tuple(('repeat', source.randint(0, 10 ** 9), valleys(source, 6)) for _ in range(4))
+    copies = tuple(('copies', source.randint(0, 10 ** 9), valleys(source, 6)) for _ in range(4))
+    return ('par', rounds + copies + tuple(valleys(source, 8) for _ in range(8)))
 
 
 def ladder(levels):
@@ -25,8 +39,11 @@ def great_jobs():
     source = random.Random(61)
     zigzags = [('seq', zigzag(399, source)) for _ in range(3)]
     wide = [('par', tuple(('seq', zigzag(source.choice([2, 3, 4]), source)) for _ in range(78))) for _ in range(3)]
-    many = tuple((source.choice(['repeat', 'copies']), source.randint(0, 10 ** 20), ('seq', zigzag(3, source))) for _ in range(79))
+    many = tuple((source.choice(['repeat', 'copies']), source.randint(0, 10 ** 20), ('seq', zigzag(3, source)))
+                 for _ in range(79))
+    uneven = [uneven_parts(source) for _ in range(4)]
     return (
+        *uneven, ('copies', 10 ** 18, uneven[0]), ('repeat', 10 ** 18, uneven[1]), ('seq', (5, uneven[2], -7)),
         D, HUGE, EMPTY_HUGE, *zigzags, *wide, ('par', many), ('seq', many), ladder(11),
         ('par', tuple(range(-199, 200))), ('repeat', MOST, -1), ('copies', MOST, MOST), ('repeat', 0, HUGE),
         ('copies', 10 ** 15, ('repeat', 10 ** 14, ('seq', (6, -5, 4)))),

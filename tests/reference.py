@@ -3,6 +3,7 @@
 Nothing here uses the program.
 """
 
+import math
 import random
 
 
@@ -188,3 +189,46 @@ def reversed_profile(profile):
     net, peak, start, end = profile
     back = [tuple((capacity - net, usage - net) for capacity, usage in pairs) for pairs in (end, start)]
     return (-net, peak - net, back[0], back[1])
+
+
+def uneven_job(source):
+    """A small job of sequences that go down and up in several valleys, beside and after one another."""
+    def steps(longest):
+        profile = random_profile(source, longest)
+        return ('seq', normal_steps(source.choice([profile, reversed_profile(profile)])))
+    return source.choice([
+        lambda: ('par', (steps(4), steps(4))),
+        lambda: ('par', (steps(3), steps(2), source.randint(-5, 5))),
+        lambda: ('par', (steps(2), steps(2), steps(2))),
+        lambda: ('copies', 2, steps(4)),
+        lambda: ('copies', 3, steps(2)),
+        lambda: ('seq', (steps(2), ('par', (steps(2), steps(3))), steps(2))),
+        lambda: ('repeat', 2, ('par', (steps(2), steps(2)))),
+        lambda: ('repeat', 3, steps(3)),
+        lambda: ('par', (('repeat', 2, steps(2)), steps(2))),
+        lambda: ('copies', 2, ('repeat', 2, steps(2))),
+        lambda: ('copies', 2, ('seq', (('par', (steps(2), source.randint(-5, 5))), steps(1)))),
+    ])()
+
+
+def uneven_jobs(seed, many, most=400):
+    """Jobs of the kind above of which all states can be gone through, so many of them."""
+    source = random.Random(seed)
+    found = []
+    while len(found) < many:
+        job = uneven_job(source)
+        if state_count(job) <= most:
+            found.append(job)
+    return found
+
+
+def state_count(job):
+    if isinstance(job, int):
+        return 2
+    if job[0] in ('seq', 'par'):
+        counts = [state_count(part) for part in job[1]]
+    else:
+        counts = [state_count(job[2])] * job[1]
+    if job[0] in ('seq', 'repeat'):
+        return sum(counts) - len(counts) + 1
+    return math.prod(counts)

@@ -10,7 +10,7 @@ from roomprofile.plans.plans import chain, chain_profile, is_plan, plan_peak
 from roomprofile.profiles.profiles import profile
 from tests.checks import Checks
 from tests.great import GREAT_JOBS, MOST
-from tests.reference import Order, normal_steps, profile_of, random_job, random_jobs, random_profile, reversed_profile
+from tests.reference import Order, normal_steps, profile_of, random_job, random_jobs, random_profile, reversed_profile, uneven_jobs
 from tests.reference_plans import chain_by_words, profile_by_words, stretches_by_words
 from tests.values import A, B, C, D, EMPTY_HUGE, HUGE, NO_JOBS, P, WIDE
 
@@ -30,7 +30,7 @@ class BestPlanTest(Checks):
         self.assert_same(chain_profile(chain(P, best_plan(P))), (10, 10, ((0, 0),), ((10, 0),)))
 
     def test_small_jobs_state_by_state(self):
-        for job in random_jobs(141, 400, 8) + random_jobs(142, 200, 9, levels=6, largest=3):
+        for job in random_jobs(141, 400, 8) + random_jobs(142, 200, 9, levels=6, largest=3) + uneven_jobs(148, 200):
             self.assert_best(job, profile_of(job))
             self.assertIsNotNone(chain_by_words(job, best_plan(job)))
 

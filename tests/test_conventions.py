@@ -4,7 +4,7 @@ import importlib
 import inspect
 import unittest
 
-from tests.checks import Checks
+from tests.checks import Checks, repr_kinds
 from tests.values import A, B, C, HUGE, INTEGERS, NO_JOBS, P, STRANGE, TUPLES, WIDE, deep_tuple
 from tests.wrong_valleys import NO_PROFILES, NO_VALLEYS, PROFILES, START_VALLEYS
 
@@ -121,6 +121,7 @@ class ConventionsTest(Checks):
                 self.assertTrue(is_fixed(getattr(module, name)(*CALLS[name])))
 
     def test_functions_that_accept_any_value(self):
+        kinds = repr_kinds(ANY_VALUES)
         for module, name, signature in functions():
             if 'value' not in signature or not name.startswith('is_'):
                 continue
@@ -132,6 +133,7 @@ class ConventionsTest(Checks):
                 for index, value in enumerate(ANY_VALUES + (WIDE,)):
                     with self.subTest(name=name, index=index):
                         self.assertIsInstance(function(*arguments, value), bool)
+        self.assertEqual(repr_kinds(ANY_VALUES), kinds)
 
     def test_booleans_are_no_integers(self):
         def calls(truth, zero):

@@ -15,7 +15,7 @@ from roomprofile.profiles.profiles import profile
 from tests.changes import changes_of
 from tests.checks import Checks
 from tests.great import GREAT_JOBS, MOST
-from tests.reference import Order, profile_of, random_jobs
+from tests.reference import Order, profile_of, random_jobs, uneven_jobs
 from tests.reference_barriers import is_barrier_by_words
 from tests.reference_plans import chain_by_words, random_plan, whole
 from tests.values import A, B, C, D, EMPTY_HUGE, HUGE, INTEGERS, NO_JOBS, NO_NUMBERS, NUMBER_EDGES, P, STRANGE, TUPLES, WIDE
@@ -66,7 +66,7 @@ class CertificateTest(Checks):
                 self.assert_certificate(job, capacity, 'plan' if capacity >= least else 'barrier')
 
     def test_small_jobs_state_by_state(self):
-        for job in random_jobs(182, 200, 8, levels=6):
+        for job in random_jobs(182, 200, 8, levels=6) + uneven_jobs(194, 150):
             peak = profile_of(job)[1]
             for capacity in (-1, peak - 1, peak, peak + 1):
                 self.assert_certificate(job, capacity, 'plan' if capacity >= peak else 'barrier')
@@ -144,7 +144,7 @@ class LeastCertificateTest(Checks):
         self.assertIs(is_least_certificate(job, value), True)
 
     def test_small_jobs(self):
-        for job in random_jobs(187, 250, 8, levels=6):
+        for job in random_jobs(187, 250, 8, levels=6) + uneven_jobs(195, 150):
             self.assert_least(job, profile_of(job)[1])
         for job in EMPTY_JOBS:
             self.assert_least(job, 0)
@@ -221,7 +221,7 @@ class LimitsTest(Checks):
                     self.assert_same(rounds_that_fit(job, capacity, most=most), (1, fits[-1]) if fits else None)
 
     def test_counts_one_by_one(self):
-        for job in random_jobs(190, 200, 8):
+        for job in random_jobs(190, 100, 8) + uneven_jobs(196, 200):
             known = profile(job)
             copies = [copies_profile(n, known)[1] for n in range(1, 31)]
             rounds = [repeat_profile(n, known)[1] for n in range(1, 31)]
@@ -234,7 +234,7 @@ class LimitsTest(Checks):
 
     def test_great_counts(self):
         source = random.Random(191)
-        for job in random_jobs(192, 200, 8) + list(GREAT_JOBS):
+        for job in random_jobs(192, 100, 8) + uneven_jobs(197, 150) + list(GREAT_JOBS):
             limit = MOST // max(1, step_count(job))
             known = profile(job)
             for _ in range(4):
@@ -332,7 +332,7 @@ class LimitsTest(Checks):
 
 class AgreementTest(Checks):
     def test_what_fits_has_a_plan_and_what_does_not_has_a_barrier(self):
-        for job in random_jobs(193, 60, 5):
+        for job in random_jobs(193, 30, 5) + uneven_jobs(198, 60):
             capacity = profile(job)[1] + 2
             for kind, found in (('copies', copies_that_fit(job, capacity)), ('repeat', rounds_that_fit(job, capacity))):
                 for n in (found[0], found[1]):

@@ -10,7 +10,7 @@ from roomprofile.jobs.jobs import mirror
 from roomprofile.profiles.profiles import profile
 from tests.checks import Checks
 from tests.great import GREAT_JOBS, MOST
-from tests.reference import Order, profile_of, random_job, random_jobs, value_at
+from tests.reference import Order, profile_of, random_job, random_jobs, uneven_job, uneven_jobs, value_at
 from tests.reference_barriers import is_barrier_by_words, is_floor_by_words
 from tests.values import A, B, C, D, EMPTY_HUGE, HUGE, NO_JOBS, NO_NUMBERS, NUMBER_EDGES, P, WIDE
 
@@ -51,6 +51,10 @@ class FindTest(FindChecks):
 
     def test_small_jobs_state_by_state(self):
         for job in random_jobs(171, 300, 7) + random_jobs(172, 200, 8, levels=6, largest=3):
+            self.assert_all(job, profile_of(job))
+
+    def test_jobs_of_several_valleys_state_by_state(self):
+        for job in uneven_jobs(178, 150):
             self.assert_all(job, profile_of(job))
 
     def test_either_a_floor_or_a_run(self):
@@ -122,8 +126,8 @@ class GreatJobsTest(FindChecks):
 
     def test_great_counts(self):
         source = random.Random(177)
-        for _ in range(100):
-            inner = random_job(source, 6)
+        for index in range(150):
+            inner = random_job(source, 6) if index % 3 == 0 else uneven_job(source)
             count = source.randint(0, 10 ** 20)
             for kind in ('repeat', 'copies'):
                 for job in ((kind, count, inner), ('seq', ((kind, count, inner), inner)), ('par', ((kind, count, inner), inner))):

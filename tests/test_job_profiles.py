@@ -14,6 +14,7 @@ from tests.checks import Checks
 from tests.great import GREAT_JOBS, MOST, zigzag
 from tests.reference import (
     Order, is_profile_by_words, normal_steps, profile_of, random_job, random_jobs, random_profile, reversed_profile,
+    uneven_jobs,
 )
 from tests.values import A, B, C, D, EMPTY_HUGE, HUGE, NO_JOBS, NO_NUMBERS, NUMBER_EDGES, P, WIDE, nested
 from tests.wrong_valleys import HUGE_NUMBER, NO_PROFILES, PROFILES
@@ -30,7 +31,7 @@ class ProfileTest(Checks):
         self.assert_same(profile(P), (10, 10, ((0, 0),), ((10, 0),)))
 
     def test_small_jobs_state_by_state(self):
-        for job in random_jobs(101, 400, 8) + random_jobs(102, 200, 9, levels=6, largest=3):
+        for job in random_jobs(101, 400, 8) + random_jobs(102, 200, 9, levels=6, largest=3) + uneven_jobs(117, 200):
             self.assert_same(profile(job), profile_of(job))
 
     def test_the_peak_is_that_of_the_best_complete_run(self):
@@ -43,7 +44,7 @@ class ProfileTest(Checks):
             self.assert_same(profile(job), NOTHING)
 
     def test_mirrors(self):
-        for job in random_jobs(104, 200, 9) + list(GREAT_JOBS):
+        for job in random_jobs(104, 200, 9) + uneven_jobs(118, 200) + list(GREAT_JOBS):
             self.assert_same(profile(mirror(job)), reversed_profile(profile(job)))
 
     def test_great_jobs(self):
@@ -56,7 +57,7 @@ class ProfileTest(Checks):
 
     def test_parts_of_great_counts(self):
         source = random.Random(105)
-        for job in random_jobs(106, 150, 5):
+        for job in random_jobs(106, 100, 5) + uneven_jobs(119, 150):
             first = source.randint(0, 10 ** 28)
             second = source.choice([0, 1, 2, source.randint(0, 10 ** 28)])
             for kind, outer in (('repeat', 'seq'), ('copies', 'par')):
@@ -65,7 +66,7 @@ class ProfileTest(Checks):
 
     def test_the_profile_depends_on_the_profiles_of_the_parts(self):
         source = random.Random(107)
-        for job in random_jobs(108, 150, 7):
+        for job in random_jobs(108, 100, 7) + uneven_jobs(120, 100):
             steps = ('seq', normal_form(profile(job)))
             other = random_job(source, 5)
             for kind in ('repeat', 'copies'):

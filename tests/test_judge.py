@@ -6,7 +6,7 @@ from roomprofile.barriers.judge import is_barrier, is_floor
 from roomprofile.errors import InvalidJob
 from tests.changes import changes_of
 from tests.checks import Checks
-from tests.reference import Order, profile_of, random_jobs, value_at
+from tests.reference import Order, profile_of, random_jobs, uneven_jobs, value_at
 from tests.reference_barriers import (
     is_barrier_by_words, is_floor_by_words, lowest_of, mirror_of, net_of, random_barrier, random_floor,
 )
@@ -208,6 +208,13 @@ class BarrierRowsTest(Checks):
         floors = (('seq', (STEP, STEP), NET), LOWEST)
         self.assert_yes([is_barrier(deeper, 0, ('front', (-3, -1), floors))])
         self.assert_no([is_barrier(deeper, 1, ('front', (-3, -1), floors)), is_barrier(deeper, 0, ('front', (-4, -1), floors))])
+        # At the capacity -1 both floors are for the capacity 0, and only the front itself is for one below 0.
+        twins = ('par', (('seq', (-1, 3, -4)),) * 2)
+        floors = (('seq', (STEP, STEP), NET),) * 2
+        self.assert_yes([is_barrier(twins, 0, ('front', (-1, -1), floors)), is_barrier(twins, -1, NET)])
+        self.assert_no([is_barrier(twins, -1, ('front', (-1, -1), floors)), is_barrier(twins, 1, ('front', (-1, -1), floors))])
+        self.assert_yes([is_floor(twins, 0, -2, ('par', (-1, -1), floors))])
+        self.assert_no([is_floor(twins, -1, -2, ('par', (-1, -1), floors))])
 
     def test_high_part(self):
         self.assert_yes([is_barrier(C, 3, ('high', 0, ('part', 0, NET))), is_barrier(C, 2, ('high', 1, ('part', 0, NET)))])
@@ -246,7 +253,9 @@ class BarrierRowsTest(Checks):
         # At the low -1 of the others a copy has a capacity of 1, and needs 2 for the step 3.
         deeper = ('copies', 2, ('seq', (-1, 3, -4)))
         floor = ('seq', (STEP, STEP), NET)
-        self.assert_yes([is_barrier(deeper, 0, ('front', -1, floor))])
+        self.assert_yes([is_barrier(deeper, 0, ('front', -1, floor)), is_barrier(deeper, -1, NET)])
+        # At the capacity -1 the floor is for the capacity 0, and only the front itself is for one below 0.
+        self.assert_no([is_barrier(deeper, -1, ('front', -1, floor))])
         self.assert_no([is_barrier(deeper, 1, ('front', -1, floor)), is_barrier(deeper, 0, ('front', -2, LOWEST)),
                         is_barrier(deeper, 0, ('front', 0, floor))])
 
@@ -266,7 +275,7 @@ class TablesTest(Checks):
     def test_values_of_any_origin(self):
         source = random.Random(161)
         found = {True: 0, False: 0}
-        for job in random_jobs(162, 1500, 6, levels=5):
+        for job in random_jobs(162, 1500, 6, levels=5) + uneven_jobs(163, 500):
             capacity = source.randint(-2, 9)
             low = source.randint(-7, 1)
             for _ in range(4):
@@ -283,7 +292,7 @@ class TablesTest(Checks):
     def test_what_floors_and_barriers_show(self):
         source = random.Random(163)
         found = 0
-        for job in random_jobs(164, 400, 6, levels=5):
+        for job in random_jobs(164, 400, 6, levels=5) + uneven_jobs(165, 300, most=100):
             _, peak, start, _ = profile_of(job)
             for _ in range(6):
                 capacity = source.randint(0, 9)

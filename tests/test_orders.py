@@ -11,7 +11,7 @@ from roomprofile.plans.plans import plan_peak, sequential_plan
 from roomprofile.runs.runs import is_complete_run, run_usages
 from tests.checks import Checks
 from tests.great import GREAT_JOBS, MOST
-from tests.reference import random_jobs, steps_of
+from tests.reference import random_jobs, steps_of, uneven_jobs
 from tests.reference_plans import chain_by_words, random_plan, stretches_by_words
 from tests.test_plans import NO_PLANS, STEP, THREE, TWO
 from tests.values import A, B, C, D, EMPTY_HUGE, HUGE, LARGE, NO_JOBS, P, SMALL, STRANGE, WIDE
@@ -50,7 +50,7 @@ class SmallJobsTest(Checks):
 
     def test_small_jobs_step_by_step(self):
         source = random.Random(151)
-        for job in random_jobs(152, 250, 9, levels=6):
+        for job in random_jobs(152, 200, 9, levels=6) + uneven_jobs(160, 30):
             self.assert_run(job, random_plan(source, job))
 
     def test_larger_jobs_step_by_step(self):

@@ -9,7 +9,7 @@ from roomprofile.profiles.profiles import profile
 from tests.changes import changes_of
 from tests.checks import Checks
 from tests.great import GREAT_JOBS, MOST
-from tests.reference import random_jobs, steps_of, value_at
+from tests.reference import random_jobs, steps_of, uneven_jobs, value_at
 from tests.reference_plans import chain_by_words, profile_by_words, random_plan, stretches_by_words, whole
 from tests.values import A, B, C, D, EMPTY_HUGE, HUGE, INTEGERS, NO_JOBS, P, STRANGE, TUPLES, WIDE, deep_tuple
 from tests.wrong_valleys import HUGE_NUMBER, stairs
@@ -64,7 +64,7 @@ class ExamplesTest(Checks):
 class ChainTest(Checks):
     def test_small_jobs_part_by_part(self):
         source = random.Random(121)
-        for job in random_jobs(122, 500, 9, levels=6):
+        for job in random_jobs(122, 400, 9, levels=6) + uneven_jobs(136, 100):
             for _ in range(3):
                 plan = random_plan(source, job)
                 self.assertIs(is_plan(job, plan), True)
@@ -247,7 +247,7 @@ class ChainProfileTest(Checks):
 
     def test_peaks_and_valleys_are_nowhere_below_those_of_the_job(self):
         source = random.Random(132)
-        for job in random_jobs(133, 150, 8):
+        for job in random_jobs(133, 100, 8) + uneven_jobs(135, 100):
             total, peak, start, end = profile(job)
             for _ in range(4):
                 found = chain_profile(chain(job, random_plan(source, job)))
