@@ -2,7 +2,6 @@
 
 import random
 
-from tests.reference import normal_steps, random_profile, reversed_profile
 from tests.values import D, EMPTY_HUGE, HUGE, nested
 
 MOST = 10 ** 30
@@ -13,17 +12,19 @@ def zigzag(many, source):
     return tuple((1 if at % 2 == 0 else -1) * source.randint(1, 50) for at in range(many))
 
 
-def valleys(source, longest):
-    """A sequence that goes down and up in several valleys."""
-    profile = random_profile(source, longest)
-    return ('seq', normal_steps(source.choice([profile, reversed_profile(profile)])))
+def falls(climbs):
+    """A sequence that climbs by each of these and falls by one more."""
+    return ('seq', tuple(step for climb in climbs for step in (climb, -climb - 1)))
 
 
-def uneven_parts(source):
-    """Parallel parts of several valleys each, many rounds and many copies of such ones among them."""
-    rounds = tuple(('repeat', source.randint(0, 10 ** 9), valleys(source, 6)) for _ in range(4))
-    copies = tuple(('copies', source.randint(0, 10 ** 9), valleys(source, 6)) for _ in range(4))
-    return ('par', rounds + copies + tuple(valleys(source, 8) for _ in range(8)))
+def uneven_jobs():
+    """Parallel parts and copies that go down in many turns, and have many valleys together."""
+    climbs = range(4, 4 + 2 * 190, 2)
+    parts = ('par', (falls(climbs[::3]), falls(climbs[1::3]), falls(climbs[2::3])))
+    many = 10 ** 20
+    copies = ('copies', many, falls(range(9, 9 + 190 * (many + 2), many + 2)))
+    mixed = ('par', (('copies', 3, falls(range(5, 105, 5))), ('repeat', 4, falls(range(3, 83, 4))), falls(range(7, 200, 7)), 5, -8))
+    return (parts, copies, mixed, ('repeat', many, parts), ('seq', (5, mixed, -7)), ('copies', many, mixed))
 
 
 def ladder(levels):
@@ -41,10 +42,8 @@ def great_jobs():
     wide = [('par', tuple(('seq', zigzag(source.choice([2, 3, 4]), source)) for _ in range(78))) for _ in range(3)]
     many = tuple((source.choice(['repeat', 'copies']), source.randint(0, 10 ** 20), ('seq', zigzag(3, source)))
                  for _ in range(79))
-    uneven = [uneven_parts(source) for _ in range(4)]
     return (
-        *uneven, ('copies', 10 ** 18, uneven[0]), ('repeat', 10 ** 18, uneven[1]), ('seq', (5, uneven[2], -7)),
-        D, HUGE, EMPTY_HUGE, *zigzags, *wide, ('par', many), ('seq', many), ladder(11),
+        *uneven_jobs(), D, HUGE, EMPTY_HUGE, *zigzags, *wide, ('par', many), ('seq', many), ladder(11),
         ('par', tuple(range(-199, 200))), ('repeat', MOST, -1), ('copies', MOST, MOST), ('repeat', 0, HUGE),
         ('copies', 10 ** 15, ('repeat', 10 ** 14, ('seq', (6, -5, 4)))),
         ('repeat', 10 ** 15, ('copies', 10 ** 14, ('seq', (6, -5, -4)))),

@@ -12,10 +12,8 @@ def find_floor(job, capacity, low):
     checked_sizes(job)
     check_number(capacity)
     check_number(low)
-    if capacity < 0 or low > 0:
-        return None
     whole_job = weighed(job)
-    if value_at(whole_job.find_profile()[2], capacity) < low:
+    if capacity < 0 or value_at(whole_job.find_profile()[2], capacity) < low:
         return None
     return _floor(whole_job, capacity, low)
 

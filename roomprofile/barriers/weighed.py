@@ -2,7 +2,7 @@
 
 from roomprofile.integers import is_integer
 from roomprofile.profiles.basic import of_step
-from roomprofile.profiles.composed import composed, multiplied, reversed_profile
+from roomprofile.profiles.composed import composed, multiplied
 
 
 class Weighed:
@@ -28,8 +28,6 @@ class Weighed:
             ordered = parts[::-1] if self.kind == "seq" else parts
             image = Weighed(self.kind, self.n, ordered, -self.total, self.low - self.total)
             image.made_mirror = self
-            if self.made_profile is not None:
-                image.made_profile = reversed_profile(self.made_profile)
             self.made_mirror = image
         return self.made_mirror
 

@@ -4,7 +4,6 @@ from roomprofile.integers import is_integer
 from roomprofile.profiles.basic import in_sequence, of_step
 from roomprofile.profiles.beside import in_parallel
 from roomprofile.profiles.many import in_copies, in_rounds
-from roomprofile.valleys.valleys import moved
 
 
 def composed(kind, profiles):
@@ -15,12 +14,6 @@ def composed(kind, profiles):
 def multiplied(kind, count, profile):
     """The profile of a "repeat" or "copies" of a job with this profile."""
     return in_rounds(count, profile) if kind == "repeat" else in_copies(count, profile)
-
-
-def reversed_profile(profile):
-    """The profile of the mirror of a job with this profile."""
-    net, peak, start, end = profile
-    return (-net, peak - net, moved(end, -net, -net), moved(start, -net, -net))
 
 
 def job_profile(job):
