@@ -1,7 +1,7 @@
 """Whether a value is a floor or a barrier of a job, whoever made it."""
 
 from roomprofile.barriers.weighed import totals_before, weighed
-from roomprofile.integers import check_number, is_integer
+from roomprofile.integers import check_number, is_integer, is_within
 from roomprofile.jobs.jobs import checked_sizes
 from roomprofile.tuples import begins_with
 
@@ -134,7 +134,7 @@ def _judge_barrier_of_copies(job, capacity, value):
 
 
 def _is_index(value, parts):
-    return is_integer(value) and 0 <= value < len(parts)
+    return is_within(value, 0, len(parts) - 1)
 
 
 def _are_lows(parts, lows):

@@ -1,7 +1,6 @@
 """How many copies, or rounds, of a job fit a capacity."""
 
-from roomprofile.errors import InvalidNumber
-from roomprofile.integers import check_number, is_integer
+from roomprofile.integers import check_number, check_within
 from roomprofile.jobs.jobs import MAX_COUNT, checked_sizes
 from roomprofile.profiles.composed import job_profile
 
@@ -35,8 +34,7 @@ def _greatest_count(job, capacity, most):
     """The greatest count of the job that is at most `most`. Raises the errors of the arguments."""
     steps = checked_sizes(job)[1]
     check_number(capacity)
-    if not is_integer(most) or not 1 <= most <= MAX_COUNT:
-        raise InvalidNumber(most)
+    check_within(most, 1, MAX_COUNT)
     return min(most, MAX_COUNT // max(1, steps))
 
 

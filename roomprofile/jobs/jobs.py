@@ -1,7 +1,7 @@
 """Jobs: steps, and what is composed of them in sequence, in parallel, in repeats and in copies."""
 
 from roomprofile.errors import InvalidJob, TooMany
-from roomprofile.integers import is_integer
+from roomprofile.integers import is_integer, is_within
 
 MAX_STEP = 10 ** 30
 MAX_COUNT = 10 ** 30
@@ -14,7 +14,7 @@ EMPTY = ("seq", ())
 
 def is_job(value):
     """Whether the value is a job."""
-    return _sizes(value, MAX_NODES, MAX_DEPTH) is not None
+    return sizes_of(value, steps_of_leaf) is not None
 
 
 def node_count(job):
@@ -61,37 +61,51 @@ def tidy(job):
 
 def checked_sizes(job):
     """The pair (nodes, steps) of the job. Raises InvalidJob for any other value."""
-    sizes = _sizes(job, MAX_NODES, MAX_DEPTH)
+    sizes = sizes_of(job, steps_of_leaf)
     if sizes is None:
         raise InvalidJob("this is not a job")
     return sizes
 
 
-def _sizes(value, room, levels):
-    """The pair (nodes, steps) of a job within so many nodes and levels, or None for any other value.
+def steps_of_leaf(value):
+    """How many steps a value without jobs within it has in a job, or None if it may not stand there."""
+    return 1 if is_within(value, -MAX_STEP, MAX_STEP) else None
+
+
+def sizes_of(value, leaf_steps):
+    """The pair (nodes, steps) of what is built like a job within its limits, or None for any other value.
+
+    `leaf_steps` says of any value what steps_of_leaf says of it for jobs.
+    """
+    return _sizes(value, leaf_steps, MAX_NODES, MAX_DEPTH)
+
+
+def _sizes(value, leaf_steps, room, levels):
+    """As sizes_of, within so many nodes and levels.
 
     It goes no further than the room and the levels, so that a value of any size is refused soon.
     """
     if room < 1 or levels < 1:
         return None
-    if is_integer(value):
-        return (1, 1) if -MAX_STEP <= value <= MAX_STEP else None
+    steps = leaf_steps(value)
+    if steps is not None:
+        return (1, steps)
     if not isinstance(value, tuple):
         return None
     if len(value) == 2 and value[0] in ("seq", "par"):
-        return _sizes_of_parts(value[1], room, levels)
+        return _sizes_of_parts(value[1], leaf_steps, room, levels)
     if len(value) == 3 and value[0] in ("repeat", "copies"):
-        return _sizes_of_rounds(value[1], value[2], room, levels)
+        return _sizes_of_rounds(value[1], value[2], leaf_steps, room, levels)
     return None
 
 
-def _sizes_of_parts(parts, room, levels):
+def _sizes_of_parts(parts, leaf_steps, room, levels):
     if not isinstance(parts, tuple) or len(parts) > MAX_PARTS:
         return None
     nodes = 1
     steps = 0
     for part in parts:
-        sizes = _sizes(part, room - nodes, levels - 1)
+        sizes = _sizes(part, leaf_steps, room - nodes, levels - 1)
         if sizes is None:
             return None
         nodes += sizes[0]
@@ -99,10 +113,10 @@ def _sizes_of_parts(parts, room, levels):
     return _within_count(nodes, steps)
 
 
-def _sizes_of_rounds(n, inner, room, levels):
-    if not is_integer(n) or not 0 <= n <= MAX_COUNT:
+def _sizes_of_rounds(n, inner, leaf_steps, room, levels):
+    if not is_within(n, 0, MAX_COUNT):
         return None
-    sizes = _sizes(inner, room - 1, levels - 1)
+    sizes = _sizes(inner, leaf_steps, room - 1, levels - 1)
     if sizes is None:
         return None
     return _within_count(sizes[0] + 1, sizes[1] * n)

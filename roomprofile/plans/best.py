@@ -12,11 +12,11 @@ from roomprofile.plans.stretches import order_in_turn
 def best_plan(job):
     """Any plan whose chain has the profile of the job."""
     checked_sizes(job)
-    return _best(job)[0]
+    return best_pair(job)[0]
 
 
-def _best(job):
-    """The plan and its run."""
+def best_pair(job):
+    """The best plan of what is built like a job, and its run."""
     if is_integer(job):
         return plan_of_step(job)
     if job[0] in ("repeat", "copies"):
@@ -31,7 +31,7 @@ def _joined(job):
 
     Its segments first go down, then one may come back to where it began, and then they go up.
     """
-    pair = _best(job)
+    pair = best_pair(job)
     segments = pair[1].chain
     marks = start_marks(segments) + end_marks(segments)
     boundaries = sorted(set([0, len(segments)] + [mark[2] for mark in marks]))

@@ -1,7 +1,7 @@
 """The run of a plan, and what can be told of any place in it."""
 
-from roomprofile.errors import InvalidAddress, InvalidNumber
-from roomprofile.integers import is_integer
+from roomprofile.errors import InvalidAddress
+from roomprofile.integers import check_within
 from roomprofile.jobs.addresses import check_small, find_step
 from roomprofile.jobs.jobs import checked_sizes
 from roomprofile.plans.plans import checked_run
@@ -17,7 +17,7 @@ def run_of_plan(job, plan):
 def step_at(job, plan, position):
     """The address of the step before which so many steps are done."""
     run = _run(job, plan)
-    _check_within(position, 0, run.steps() - 1)
+    check_within(position, 0, run.steps() - 1)
     return run.address_at(position)
 
 
@@ -32,23 +32,18 @@ def position_of(job, plan, address):
 def usage_at(job, plan, count):
     """The usage after so many steps."""
     run = _run(job, plan)
-    _check_within(count, 0, run.steps())
+    check_within(count, 0, run.steps())
     return run.usage_after(count)
 
 
 def peak_between(job, plan, first, last):
     """The greatest usage from the first count of steps to the last one."""
     run = _run(job, plan)
-    _check_within(first, 0, run.steps())
-    _check_within(last, first, run.steps())
+    check_within(first, 0, run.steps())
+    check_within(last, first, run.steps())
     return run.peak_within(first, last)
 
 
 def _run(job, plan):
     checked_sizes(job)
     return checked_run(job, plan)
-
-
-def _check_within(number, least, greatest):
-    if not is_integer(number) or not least <= number <= greatest:
-        raise InvalidNumber(number)

@@ -1,7 +1,7 @@
 """Plans of jobs, and their chains."""
 
 from roomprofile.errors import InvalidPlan
-from roomprofile.integers import is_integer
+from roomprofile.integers import is_integer, is_within
 from roomprofile.jobs.jobs import checked_sizes
 from roomprofile.plans.building import plan_joined, plan_of_many, plan_of_parts, plan_of_step
 from roomprofile.plans.chains import are_segments, end_marks, start_marks, valleys_of, whole
@@ -125,7 +125,7 @@ def _is_order(value, parts):
     if not isinstance(value, tuple) or len(value) != sum(left):
         return False
     for index in value:
-        if not is_integer(index) or not 0 <= index < len(left) or left[index] == 0:
+        if not is_within(index, 0, len(left) - 1) or left[index] == 0:
             return False
         left[index] -= 1
     return True

@@ -1,7 +1,6 @@
 """The profiles of many rounds, and of many copies, of a job."""
 
-from roomprofile.errors import InvalidNumber
-from roomprofile.integers import is_integer
+from roomprofile.integers import check_within
 from roomprofile.jobs.jobs import MAX_COUNT
 from roomprofile.profiles.forms import NOTHING, check_profile, checked_profile
 from roomprofile.valleys.valleys import least_usages, moved
@@ -9,14 +8,14 @@ from roomprofile.valleys.valleys import least_usages, moved
 
 def repeat_profile(count, profile):
     """The profile of so many rounds of a job with this profile."""
-    _check_count(count)
+    check_within(count, 0, MAX_COUNT)
     check_profile(profile)
     return checked_profile(in_rounds(count, profile))
 
 
 def copies_profile(count, profile):
     """The profile of so many copies of a job with this profile."""
-    _check_count(count)
+    check_within(count, 0, MAX_COUNT)
     check_profile(profile)
     return checked_profile(in_copies(count, profile))
 
@@ -57,8 +56,3 @@ def _joint_copies(count, start):
         capacity = max(capacity, after[0] + (count - 1) * before[1])
         pairs.append((capacity, count * after[1]))
     return least_usages(pairs)
-
-
-def _check_count(count):
-    if not is_integer(count) or not 0 <= count <= MAX_COUNT:
-        raise InvalidNumber(count)
