@@ -4,6 +4,10 @@ import importlib
 import inspect
 import unittest
 
+from roomprofile.expressions.machine import Machine
+from roomprofile.keeper.keeper import Keeper
+from roomprofile.library.library import Library
+from roomprofile.text.shell import Shell
 from tests.checks import Checks, repr_kinds
 from tests.values import A, B, C, HUGE, INTEGERS, NO_JOBS, P, STRANGE, TUPLES, WIDE, deep_tuple
 from tests.wrong_valleys import NO_PROFILES, NO_VALLEYS, PROFILES, START_VALLEYS
@@ -57,12 +61,61 @@ INTERFACE = {
     'decisions.limits': {
         'copies_that_fit': f'(job, capacity, *, most={10 ** 30})', 'rounds_that_fit': f'(job, capacity, *, most={10 ** 30})',
     },
+    'exchange.contexts': {'is_context': '(value)', 'plug': '(context, job)', 'capacity_in': '(context, job)'},
+    'exchange.compare': {
+        'is_at_most': '(first, second)', 'can_replace': '(first, second)', 'are_exchangeable': '(first, second)',
+        'separation': '(first, second)', 'is_separation': '(first, second, value)',
+    },
+    'progress.choices': {
+        'choices': '(job)', 'is_choice': '(job, value)', 'do_step': '(job, choice)', 'remaining_after': '(job, plan, count)',
+    },
+    'library.library': {'is_definition': '(value)'},
+    'expressions.expressions': {
+        'is_expression': '(value)', 'value_of': '(expression)', 'size_of': '(expression)', 'job_of': '(expression)',
+    },
+    'expressions.machine': {'evaluate_within': '(expression, capacity)', 'evaluation_order': '(expression)'},
+    'text.formats': {
+        'job_text': '(job)', 'parse_job': '(text)', 'definition_text': '(definition)', 'parse_definition': '(text)',
+        'profile_text': '(profile)', 'parse_profile': '(text)', 'paper_text': '(paper)', 'parse_paper': '(text)',
+    },
+}
+
+SHOWN = {'__len__': '(self)', '__str__': '(self)', '__eq__': '(self, value)'}
+CLASSES = {
+    ('keeper.keeper', 'Keeper'): {
+        '__init__': '(self, capacity)', 'capacity': '(self)', 'usage': '(self)', 'need': '(self)', 'names': '(self)',
+        'remaining': '(self, name)', 'usage_of': '(self, name)', 'admit': '(self, name, job)', 'grant': '(self, name, choice)',
+        'refusal': '(self, name, choice)', 'grantable': '(self)', 'next_grant': '(self)', 'set_capacity': '(self, capacity)',
+        'remove': '(self, name)', 'undo': '(self)', 'log': '(self)', **SHOWN,
+    },
+    ('library.library', 'Library'): {
+        '__init__': '(self)', 'names': '(self)', 'definition': '(self, name)', 'uses': '(self, name)', 'users': '(self, name)',
+        'step_count': '(self, name)', 'profile': '(self, name)', 'least_capacity': '(self, name)', 'computed': '(self)',
+        'define': '(self, name, definition)', 'define_all': '(self, rows)', 'redefine': '(self, name, definition)',
+        'remove': '(self, name)', 'undo': '(self)', 'expand': '(self, name)', 'impact': '(self, name, definition)',
+        'can_redefine': '(self, name, definition)', **SHOWN,
+    },
+    ('expressions.machine', 'Machine'): {
+        '__init__': '(self, expression, *, capacity)', 'available': '(self)', 'usage': '(self)', 'peak': '(self)', 'held': '(self)',
+        'result': '(self)', 'do': '(self, address)', 'undo': '(self)', **SHOWN,
+    },
+    ('text.shell', 'Shell'): {
+        '__init__': '(self)', 'run': '(self, command)', 'run_all': '(self, commands)', 'library': '(self)', 'keeper': '(self)', **SHOWN,
+    },
+}
+CONSTANTS = {
+    'jobs.jobs': {'MAX_STEP': 10 ** 30, 'MAX_COUNT': 10 ** 30, 'MAX_PARTS': 400, 'MAX_NODES': 400, 'MAX_DEPTH': 13},
+    'jobs.addresses': {'MAX_SMALL': 400}, 'valleys.valleys': {'MAX_VALLEYS': 400}, 'plans.plans': {'MAX_SEGMENTS': 2000},
+    'keeper.keeper': {'MAX_JOBS': 20}, 'expressions.expressions': {'MODULUS': 997, 'MAX_SIZE': 10 ** 12},
 }
 
 STEP_PROFILES = ((5, 5, ((0, 0),), ((5, 0),)), (-3, 0, ((0, -3),), ((-3, -3),)))
 TWO = ('seq', (('step',), ('step',)))
 PLAN = ('par', (('join', (2,), TWO), ('seq', (('step',),) * 3)), (1, 1, 0, 1))
 BARRIER = ('high', 0, ('part', 0, ('net',)))
+CONTEXT = ('par', (('hole',), ('seq', (4, -4))))
+DEFINITION = ('seq', (('use', 'work'), ('copies', 2, ('use', 'a'))))
+EXPRESSION = ('apply', 'add', (('load', 3, 5), ('fold', 'mul', 2, ('load', 7, 4), 1)), 2)
 CALLS = {
     'is_job': (C,), 'node_count': (C,), 'step_count': (C,), 'is_empty': (C,), 'net': (C,), 'lowest': (C,), 'mirror': (C,),
     'tidy': (C,), 'is_address': (C, (0, 0)), 'step_value': (C, (0, 0)), 'precedes': (C, (0, 0), (0, 1)),
@@ -82,10 +135,19 @@ CALLS = {
     'is_floor': (C, 3, -2, ('lowest',)), 'is_barrier': (C, 3, BARRIER), 'find_floor': (C, 2, 0), 'find_barrier': (C, 3),
     'certificate': (C, 3), 'is_certificate': (C, 3, ('barrier', BARRIER)), 'least_certificate': (C,),
     'is_least_certificate': (C, (4, PLAN, BARRIER)), 'copies_that_fit': (C, 9), 'rounds_that_fit': (C, 9),
+    'is_context': (CONTEXT,), 'plug': (CONTEXT, A), 'capacity_in': (CONTEXT, A), 'is_at_most': STEP_PROFILES, 'can_replace': (B, A),
+    'are_exchangeable': (A, B), 'separation': (A, B), 'is_separation': (A, B, (CONTEXT, 4)), 'choices': (C,), 'is_choice': (C, (0, 0)),
+    'do_step': (C, (0, 0)), 'remaining_after': (C, PLAN, 2), 'is_definition': (DEFINITION,), 'is_expression': (EXPRESSION,),
+    'value_of': (EXPRESSION,), 'size_of': (EXPRESSION,), 'job_of': (EXPRESSION,), 'evaluate_within': (EXPRESSION, 99),
+    'evaluation_order': (EXPRESSION,), 'job_text': (C,), 'parse_job': ('seq(5, -3)',), 'definition_text': (DEFINITION,),
+    'parse_definition': ('use(work)',), 'profile_text': (STEP_PROFILES[0],), 'parse_profile': ('net 5, peak 5, start 0:0, end 5:0',),
+    'paper_text': (PLAN,), 'parse_paper': ('(a none)',),
 }
 
 ANY_VALUES = STRANGE + INTEGERS + TUPLES + NO_JOBS + NO_VALLEYS + NO_PROFILES + PROFILES + START_VALLEYS + (
     A, B, C, P, HUGE, deep_tuple(200), [[[]]] * 3, {'a': {'b': (1, [2])}}, ((0, 0), {'a': 1}), (((0, 0), []),), PLAN, TWO, ('step',), BARRIER, ('lowest',), ('net',), ('plan', PLAN), (4, PLAN, BARRIER),
+    CONTEXT, ('hole',), DEFINITION, ('use', 'a'), EXPRESSION, ('load', 3, 5), (CONTEXT, 5), Keeper(5), (Library(), 5), ('seq', (Shell(),)),
+    [Machine(EXPRESSION, capacity=5)], (Keeper(5), ()),
 )
 
 
@@ -103,6 +165,23 @@ class InterfaceTest(Checks):
                 self.assertTrue(inspect.isfunction(function))
                 self.assertEqual(function.__module__, module.__name__)
                 self.assertEqual(str(inspect.signature(function)), signature)
+
+    def test_classes_define_their_methods_themselves(self):
+        for (module_name, name), methods in CLASSES.items():
+            module = importlib.import_module('roomprofile.' + module_name)
+            kind = getattr(module, name)
+            self.assertTrue(inspect.isclass(kind))
+            self.assertEqual((kind.__module__, kind.__bases__), (module.__name__, (object,)))
+            for method, signature in methods.items():
+                with self.subTest(name=name, method=method):
+                    self.assertTrue(inspect.isfunction(vars(kind)[method]))
+                    self.assertEqual(str(inspect.signature(vars(kind)[method])), signature)
+
+    def test_constants(self):
+        for module_name, constants in CONSTANTS.items():
+            module = importlib.import_module('roomprofile.' + module_name)
+            for name, value in constants.items():
+                self.assert_same(getattr(module, name), value)
 
     def test_all_functions_are_called_below(self):
         self.assertEqual({name for _, name, _ in functions()}, set(CALLS))
@@ -126,7 +205,7 @@ class ConventionsTest(Checks):
             if 'value' not in signature or not name.startswith('is_'):
                 continue
             function = getattr(module, name)
-            before = {'(value)': [()], '(job, value)': [(C,), (5,), (P,)]}.get(signature)
+            before = {'(value)': [()], '(job, value)': [(C,), (5,), (P,)], '(first, second, value)': [(A, B), (B, A)]}.get(signature)
             if before is None:
                 before = [(job,) + CALLS[name][1:-1] for job in (C, 5, P)]
             for arguments in before:
@@ -176,6 +255,23 @@ class ConventionsTest(Checks):
                 ('decisions.certificates', 'is_certificate', (C, truth, None), {}),
                 ('decisions.limits', 'copies_that_fit', (C, 9), {'most': truth}),
                 ('decisions.limits', 'rounds_that_fit', (C, zero), {}),
+                ('exchange.contexts', 'plug', (('par', (('hole',), truth)), A), {}),
+                ('exchange.contexts', 'capacity_in', (('par', (('hole',), ('repeat', truth, 5))), A), {}),
+                ('exchange.compare', 'is_at_most', (STEP_PROFILES[0], (zero, truth, ((0, 0),), ((0, 0),))), {}),
+                ('exchange.compare', 'can_replace', (('seq', (truth, zero)), A), {}),
+                ('exchange.compare', 'separation', (A, ('copies', truth, 5)), {}),
+                ('progress.choices', 'do_step', (C, (truth, zero)), {}),
+                ('progress.choices', 'remaining_after', (C, PLAN, truth), {}),
+                ('expressions.expressions', 'value_of', (('load', truth, 5),), {}),
+                ('expressions.expressions', 'job_of', (('fold', 'add', truth, ('load', 3, zero), truth),), {}),
+                ('expressions.machine', 'evaluate_within', (('load', 3, zero), zero), {}),
+                ('expressions.machine', 'evaluate_within', (('load', 3, 0), zero), {}),
+                ('text.formats', 'job_text', (('seq', (truth,)),), {}),
+                ('text.formats', 'definition_text', (('copies', truth, ('use', 'a')),), {}),
+                ('text.formats', 'profile_text', ((zero, truth, ((0, 0),), ((0, 0),)),), {}),
+                ('text.formats', 'paper_text', ((truth, zero),), {}),
+                ('keeper.keeper', 'Keeper', (truth,), {}),
+                ('expressions.machine', 'Machine', (('load', 3, 0),), {'capacity': zero}),
             )
         for module, name, arguments, more in calls(1, 0):
             getattr(importlib.import_module('roomprofile.' + module), name)(*arguments, **more)

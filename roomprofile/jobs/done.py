@@ -32,6 +32,13 @@ class DoneSteps:
         self.done[address] = True
         self.usages.append(self.usages[-1] + step)
 
+    def undo_step(self, address):
+        """Takes back the last done step, which is the one at the address."""
+        for level, _ in self.rows[address][1]:
+            self.below[address[:level]] -= 1
+        del self.done[address]
+        del self.usages[-1]
+
     def do_all(self, addresses):
         """Does the steps of a run and returns whether the addresses (any value) are one from here on."""
         if not isinstance(addresses, tuple):

@@ -107,8 +107,7 @@ class Keeper:
         """Takes back the last operation that has not been taken back."""
         if not self.past:
             raise InvalidOperation("there is no operation to take back")
-        _, self.limit, self.rows = self.past[-1]
-        del self.past[-1]
+        _, self.limit, self.rows = self.past.pop()
 
     def log(self):
         """The operations that have not been taken back, in order."""

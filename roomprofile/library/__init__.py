@@ -1,0 +1,1 @@
+"""A library of named jobs, which can use one another."""

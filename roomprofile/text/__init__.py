@@ -1,0 +1,1 @@
+"""Text forms of values, and a shell of commands."""
