@@ -253,6 +253,13 @@ class PapersTest(Checks):
             else:
                 self.assert_raises_only(InvalidPaper, paper_text, value)
 
+    def test_values_that_are_wide_and_nested_too_deep(self):
+        for core, levels in (((), 60), ((), 199), (5, 60), ('A', 59), (True, 40)):
+            value = core
+            for _ in range(levels):
+                value = (value, value)
+            self.assertRaises(InvalidPaper, paper_text, value)
+
     def test_one_part_changed(self):
         source = random.Random(301)
         for _ in range(40):

@@ -205,11 +205,62 @@ class StatementsTest(unittest.TestCase):
                     good = isinstance(outer, ast.Assign) or getattr(getattr(outer, 'func', None), 'id', None) in ('sorted', 'len')
                     self.assertTrue(good, (path, node.lineno))
 
+    def test_stars_stand_before_names(self):
+        for path, tree in trees():
+            for node in ast.walk(tree):
+                if isinstance(node, ast.Starred):
+                    self.assertIsInstance(node.value, (ast.Name, ast.Attribute), (path, node.lineno))
+
+    def test_own_errors_alone_are_caught(self):
+        own = {node.name for _, tree in trees() for node in ast.walk(tree) if isinstance(node, ast.ClassDef)}
+        for path, tree in trees():
+            for node in ast.walk(tree):
+                if isinstance(node, ast.ExceptHandler):
+                    self.assertIn(node.type.id, own, path)
+
     def test_raised_errors_are_made_on_the_spot(self):
         for path, tree in trees():
             for node in ast.walk(tree):
                 if isinstance(node, ast.Raise) and node.exc is not None:
                     self.assertIsInstance(node.exc, ast.Call, path)
+
+
+class ClassesTest(unittest.TestCase):
+    def classes(self):
+        for _, tree in trees():
+            for node in tree.body:
+                if isinstance(node, ast.ClassDef):
+                    yield node, [part for part in node.body if isinstance(part, ast.FunctionDef)]
+
+    def test_methods_and_attributes_have_names_of_their_own(self):
+        methods = {}
+        attributes = {}
+        for kind, own in self.classes():
+            methods[kind.name] = [method.name for method in own]
+            attributes[kind.name] = {node.attr for node in ast.walk(kind)
+                                     if isinstance(node, ast.Attribute) and isinstance(node.ctx, ast.Store)}
+            self.assertEqual(len(methods[kind.name]), len(set(methods[kind.name])), kind.name)
+        every = set().union(*methods.values())
+        for name, found in attributes.items():
+            self.assertFalse(found & every, name)
+            self.assertFalse(found & (set(dir(list)) | set(dir(dict)) | {'args', 'encode', 'decode', 'hex', 'format'}) - {'index', 'count'}, name)
+
+    def test_special_methods(self):
+        for kind, methods in self.classes():
+            for method in methods:
+                if not method.name.startswith('__'):
+                    continue
+                self.assertIn(method.name, ('__init__', '__eq__', '__len__', '__str__'), kind.name)
+                returns = [node.value for node in ast.walk(method) if isinstance(node, ast.Return)]
+                if method.name == '__init__':
+                    self.assertFalse(returns, kind.name)
+                if method.name == '__len__':
+                    self.assertEqual([value.func.id for value in returns], ['len'], kind.name)
+                if method.name == '__str__':
+                    self.assertTrue(all(isinstance(value, ast.JoinedStr) for value in returns), kind.name)
+                if method.name != '__init__':
+                    self.assertIsInstance(method.body[-1], ast.Return)
+                    self.assertFalse([node for node in ast.walk(method) if isinstance(node, (ast.Assign, ast.AugAssign, ast.Delete))])
 
 
 if __name__ == '__main__':

@@ -458,6 +458,15 @@ class LimitsTest(LibraryChecks):
                     self.assertTrue(is_job(meaning))
                 else:
                     self.assert_too_many(13, library.expand, name)
+        for core in (EMPTY, ('par', ()), ('seq', (EMPTY, EMPTY)), 5):
+            for levels in (10, 11, 12, 13):
+                job = nested('seq', levels, use('core'))
+                if is_definition(job):
+                    library = library_of(('core', core), ('a', job))
+                    if levels_in(plain_meaning(library, 'a')) <= 13:
+                        self.assert_same(library.expand('a'), nested('seq', levels, core))
+                    else:
+                        self.assert_too_many(13, library.expand, 'a')
         library = library_of(('a', ('seq', (1,) * 399)), ('b', nested('par', 12, use('a'))))
         self.assert_too_many(400, library.expand, 'b')
         library = library_of(('a', nested('par', 7, 5)), ('b', nested('par', 7, use('a'))), ('c', ('repeat', 0, use('b'))))

@@ -15,7 +15,7 @@ NEUTRAL = {"add": 0, "mul": 1, "min": 996, "max": 0}
 
 def is_expression(value):
     """Whether the value is an expression."""
-    return _nodes(value, MAX_NODES, MAX_DEPTH) is not None and is_job(built_job(value))
+    return _count(value, MAX_NODES, MAX_DEPTH) is not None and is_job(built_job(value))
 
 
 def value_of(expression):
@@ -98,45 +98,38 @@ def _combined(operation, first, second):
     return min(first, second) if operation == "min" else max(first, second)
 
 
-def _nodes(value, room, levels):
-    """The number of nodes of the job of what has the form of an expression, or None for any other value.
+def _count(value, room, levels):
+    """How many expressions there are in what has the form of an expression, or None for any other value.
 
-    It goes no further than so many nodes and levels of the job, so that a value of any size is refused soon.
+    Each of them is at least one node and one level of the job. It goes no further than so many of them,
+    so that a value of any size is refused soon.
     """
     if room < 1 or levels < 1:
         return None
     if begins_with(value, "load", 3):
         return 1 if is_within(value[1], 0, MODULUS - 1) and _is_size(value[2]) else None
     if begins_with(value, "apply", 4):
-        return _nodes_of_parts(value, room, levels)
-    if begins_with(value, "each", 5):
-        return _nodes_of_rounds(value, 4, room, levels - 2)
-    if begins_with(value, "fold", 5):
-        return _nodes_of_rounds(value, 5, room, levels - 3)
-    return None
+        _, operation, parts, size = value
+        good = isinstance(parts, tuple) and 1 <= len(parts) <= MAX_OPERANDS
+    elif begins_with(value, "each", 5) or begins_with(value, "fold", 5):
+        _, operation, n, part, size = value
+        good = is_within(n, 1, MAX_COUNT)
+        parts = (part,)
+    else:
+        return None
+    if not good or not _is_operation(operation) or not _is_size(size):
+        return None
+    return _count_with_parts(parts, room, levels)
 
 
-def _nodes_of_parts(value, room, levels):
-    _, operation, parts, size = value
-    if not _is_operation(operation) or not _is_size(size):
-        return None
-    if not isinstance(parts, tuple) or not 1 <= len(parts) <= MAX_OPERANDS:
-        return None
-    nodes = 4
+def _count_with_parts(parts, room, levels):
+    many = 1
     for part in parts:
-        inner = _nodes(part, room - nodes, levels - 2)
+        inner = _count(part, room - many, levels - 1)
         if inner is None:
             return None
-        nodes += inner
-    return nodes
-
-
-def _nodes_of_rounds(value, nodes_around, room, levels):
-    _, operation, n, part, size = value
-    if not _is_operation(operation) or not _is_size(size) or not is_within(n, 1, MAX_COUNT):
-        return None
-    inner = _nodes(part, room - nodes_around, levels)
-    return None if inner is None else inner + nodes_around
+        many += inner
+    return many
 
 
 def _is_operation(value):

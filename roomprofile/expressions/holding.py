@@ -23,13 +23,12 @@ def held_pairs(expression, around, done):
 
 
 def _held_by_fold(expression, around, done):
-    _, operation, n, part, size = expression
+    _, operation, _, part, size = expression
     if around + (0,) not in done:
         return []
     rounds = 0
     while around + (1, rounds, 1) in done:
         rounds += 1
-    pairs = [(repeated_value(operation, rounds, found_value(part)), size)]
-    if rounds < n:
-        pairs.extend(held_pairs(part, around + (1, rounds, 0), done))
-    return pairs
+    accumulator = (repeated_value(operation, rounds, found_value(part)), size)
+    # Behind the last round no step is done, and so nothing is held.
+    return [accumulator] + held_pairs(part, around + (1, rounds, 0), done)

@@ -3,7 +3,7 @@
 from roomprofile.barriers.find import barrier_of
 from roomprofile.errors import InvalidNumber, InvalidOperation, NameConflict, NotEnough, TooMany, UnknownName
 from roomprofile.integers import check_number
-from roomprofile.jobs.addresses import step_value
+from roomprofile.jobs.addresses import find_step
 from roomprofile.jobs.jobs import MAX_NODES, checked_sizes, is_empty, is_job
 from roomprofile.names import is_name
 from roomprofile.plans.best import best_pair
@@ -63,9 +63,9 @@ class Keeper:
 
     def grant(self, name, choice):
         """Does the step of the job at the choice, and returns the step."""
-        before = self.remaining(name)
+        before = self.usage()
         self._do(("grant", name, choice), self.limit, self._rows_after(name, choice))
-        return step_value(before, choice)
+        return self.usage() - before
 
     def refusal(self, name, choice):
         """Any barrier that shows why the step is not granted, or None if it would be."""
@@ -131,20 +131,16 @@ class Keeper:
         """The rows after the step of the job, whether or not the rest can be finished then."""
         job, usage = self._row(name)
         left = do_step(job, choice)
-        rows = {**self.rows, name: (left, usage + step_value(job, choice))}
-        _check_joint_job(rows)
-        return rows
+        return {**self.rows, name: (left, usage + find_step(job, choice))}
 
     def _may_grant(self, name, choice):
         try:
-            rows = self._rows_after(name, choice)
+            return _need_of_rows(self._rows_after(name, choice)) <= self.limit
         except TooMany:
             return False
-        return _need_of_rows(rows) <= self.limit
 
     def _do(self, operation, limit, rows):
         """Does an operation that leads to this capacity and these rows, if all can be finished then."""
-        _check_joint_job(rows)
         need = _need_of_rows(rows)
         if need > limit:
             raise NotEnough(need)
@@ -164,12 +160,11 @@ def _unfinished_names(rows):
 
 
 def _joint_job(rows):
-    return ("par", tuple([rows[name][0] for name in _unfinished_names(rows)]))
-
-
-def _check_joint_job(rows):
-    if not is_job(_joint_job(rows)):
+    """The joint job. Raises TooMany if it would not be a job."""
+    joint = ("par", tuple([rows[name][0] for name in _unfinished_names(rows)]))
+    if not is_job(joint):
         raise TooMany(MAX_NODES)
+    return joint
 
 
 def _usage_of_rows(rows):

@@ -11,11 +11,6 @@ from roomprofile.profiles.composed import composed, multiplied
 from roomprofile.profiles.forms import checked_profile
 
 
-def is_use(definition):
-    """Whether this part of a definition stands for the meaning of a name."""
-    return not is_integer(definition) and definition[0] == "use"
-
-
 def used_names(definition):
     """The names that stand in the definition, in ascending order."""
     return tuple(sorted(set(_found_names(definition))))
@@ -25,7 +20,7 @@ def steps_of_meaning(definition, known):
     """The number of steps. Raises TooMany if the meaning, or a job within it, has more than a job can have."""
     if is_integer(definition):
         return 1
-    if is_use(definition):
+    if definition[0] == "use":
         return known[definition[1]]
     if definition[0] in ("seq", "par"):
         steps = sum([steps_of_meaning(part, known) for part in definition[1]])
@@ -40,7 +35,7 @@ def profile_of_meaning(definition, known):
     """The profile. Raises TooMany if valleys, also those of a part, have too many pairs."""
     if is_integer(definition):
         return of_step(definition)
-    if is_use(definition):
+    if definition[0] == "use":
         return known[definition[1]]
     if definition[0] in ("seq", "par"):
         return checked_profile(composed(definition[0], [profile_of_meaning(part, known) for part in definition[1]]))
@@ -52,7 +47,7 @@ def extent_of_meaning(definition, known):
     """The pair of the number of nodes and of the levels of nesting."""
     if is_integer(definition):
         return (1, 1)
-    if is_use(definition):
+    if definition[0] == "use":
         return known[definition[1]]
     parts = definition[1] if definition[0] in ("seq", "par") else (definition[2],)
     pairs = [extent_of_meaning(part, known) for part in parts]
@@ -63,7 +58,7 @@ def meaning_of(definition, known):
     """The meaning, as it is built."""
     if is_integer(definition):
         return definition
-    if is_use(definition):
+    if definition[0] == "use":
         return known[definition[1]]
     if definition[0] in ("seq", "par"):
         return (definition[0], tuple([meaning_of(part, known) for part in definition[1]]))
@@ -73,7 +68,7 @@ def meaning_of(definition, known):
 def _found_names(definition):
     if is_integer(definition):
         return []
-    if is_use(definition):
+    if definition[0] == "use":
         return [definition[1]]
     if definition[0] in ("repeat", "copies"):
         return _found_names(definition[2])

@@ -150,7 +150,7 @@ class Library:
         """The rows after redefining the name, and the names whose profiles may change then."""
         _check_defined(name, self.rows)
         used = _checked_uses(definition, self.rows)
-        touched = [name, *_users(name, self.rows)]
+        touched = [name] + _users(name, self.rows)
         if any([other in touched for other in used]):
             raise InvalidOperation("the name would use itself")
         rows = {**self.rows, name: (definition, used, 0)}

@@ -8,14 +8,13 @@ def remainder(job, choice):
     """What is left of the job when the step at the choice is done."""
     if is_integer(job):
         return EMPTY
-    index = choice[0]
     if job[0] in ("repeat", "copies"):
         left = remainder(job[2], choice[1:])
         return ("seq" if job[0] == "repeat" else "par", (left, (job[0], job[1] - 1, job[2])))
+    index = choice[0]
     left = remainder(job[1][index], choice[1:])
-    # What stands before the chosen part of a sequence is empty.
-    before = () if job[0] == "seq" else job[1][:index]
-    return (job[0], before + (left,) + job[1][index + 1:])
+    # What stands before the chosen part of a sequence is empty, and tidy jobs are without it.
+    return (job[0], job[1][:index] + (left,) + job[1][index + 1:])
 
 
 def rest_after(job, run, count):

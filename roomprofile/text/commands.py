@@ -52,13 +52,13 @@ def _redefine(library, name, definition):
     return OK
 
 
-def _remove(library, name):
-    library.remove(name)
+def _remove(owner, name):
+    owner.remove(name)
     return OK
 
 
-def _undo(history):
-    history.undo()
+def _undo(owner):
+    owner.undo()
     return OK
 
 

@@ -157,9 +157,13 @@ def _read_valleys(reader):
 def _is_paper(value, levels):
     if levels == 0:
         return False
-    if isinstance(value, tuple):
-        return all([_is_paper(part, levels - 1) for part in value])
-    return value is None or is_short_integer(value) or _is_word(value)
+    if not isinstance(value, tuple):
+        return value is None or is_short_integer(value) or _is_word(value)
+    # The first wrong part decides, so that a value which is nested too deep is refused soon.
+    for part in value:
+        if not _is_paper(part, levels - 1):
+            return False
+    return True
 
 
 def _is_word(value):
