@@ -12,12 +12,12 @@ from roomprofile.plans.plans import plan_peak
 from roomprofile.profiles.profiles import profile
 from roomprofile.progress.choices import choices
 from tests.checks import Checks
-from tests.great import GREAT_JOBS, MOST
+from tests.great import GREAT_JOBS
 from tests.reference import profile_of, random_job, random_jobs, state_count, uneven_jobs
 from tests.reference_barriers import is_barrier_by_words
 from tests.reference_keeper import PlainKeeper, attempt, joint_job
 from tests.reference_progress import choices_by_words, steps_in
-from tests.values import A, B, C, D, EMPTY_HUGE, HUGE, INTEGERS, NO_JOBS, NO_NUMBERS, P, STRANGE, TUPLES, WIDE, nested
+from tests.values import A, B, C, EMPTY_HUGE, HUGE, INTEGERS, NO_JOBS, NO_NUMBERS, STRANGE, TUPLES, WIDE, nested
 
 EMPTY = ('seq', ())
 NAMES = ('a', 'b', 'ab', 'zz', 'work')

@@ -9,7 +9,7 @@ from roomprofile.profiles.many import copies_profile, repeat_profile
 from roomprofile.profiles.profiles import profile
 from tests.changes import changes_of
 from tests.checks import Checks
-from tests.great import GREAT_JOBS, MOST, falls
+from tests.great import GREAT_JOBS, falls
 from tests.reference import profile_of, random_jobs, state_count
 from tests.reference_keeper import attempt
 from tests.reference_library import PlainLibrary, is_definition_by_words, random_definition, uses_in

@@ -132,7 +132,7 @@ class GreatJobsTest(RemainingChecks):
                 self.assertLess(nodes_in(tidy_by_words(rest_by_words(job, plan, count))), 401 if left else 10 ** 4)
 
     def test_many_copies_within_one_another(self):
-        # Twelve levels of copies: whoever makes each rest three times, level by level, does not come to an end.
+        # Twelve levels of copies: whoever makes each rest three times, level by level, makes hundreds of thousands.
         job, plan = 7, STEP
         for level in range(12):
             job, plan = ('copies', 3 + level, job), ('copies', plan)
